@@ -1,0 +1,1 @@
+"""Piecelay: code for a small machine, laid from ready pieces."""
