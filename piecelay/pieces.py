@@ -1,7 +1,7 @@
 """Pieces of code, the patterns they lie ready for, and their contracts."""
 
 from piecelay.checks import MANY_ARGS, is_name, is_tagged, is_whole, need_size
-from piecelay.errors import Fault, NoPiece
+from piecelay.errors import Fault, NoPiece, NoSet
 from piecelay.machine import MOST_CELL, Machine, instruction_at
 from piecelay.trees import is_node, need_tree, reckoned, trees_within
 
@@ -128,6 +128,12 @@ def is_set(thing):
     return len(set([piece[0] for piece in thing])) == len(thing)
 
 
+def need_set(some):
+    """Refuse what is no set of pieces."""
+    if not is_set(some):
+        raise NoSet("a set is a list of 1 to 16 pieces with unlike names")
+
+
 def may_stand_for(mark, tree):
     """Tell whether a hole, a gap or a slot may stand for the tree."""
     if mark[0] == "gap":
@@ -150,14 +156,19 @@ def matches(pattern, tree, found):
     return matches(pattern[1], tree[1], found) and matches(pattern[2], tree[2], found)
 
 
-def fits(piece, tree):
-    """Tell the holes' trees, the gaps' nums and the slots' ks, or None where the pattern does not fit."""
-    need_piece(piece)
-    need_tree(tree)
+def found_in(piece, tree):
+    """Tell what fits tells, where both are known to be right."""
     found = {"hole": [], "gap": [], "slot": []}
     if not matches(piece[1], tree, found):
         return None
     return (tuple(found["hole"]), tuple(found["gap"]), tuple(found["slot"]))
+
+
+def fits(piece, tree):
+    """Tell the holes' trees, the gaps' nums and the slots' ks, or None where the pattern does not fit."""
+    need_piece(piece)
+    need_tree(tree)
+    return found_in(piece, tree)
 
 
 def filled_cell(cell, nums, ks):

@@ -39,7 +39,8 @@ class FormTest(unittest.TestCase):
     def test_what_lies_in_the_package(self):
         there = sorted(path.name for path in PACKAGE.iterdir() if path.name != "__pycache__")
         self.assertEqual(there, [path.name for path in FILES])
-        for name in ["__init__.py", "errors.py", "trees.py", "machine.py", "pieces.py"]:
+        for name in ["__init__.py", "errors.py", "trees.py", "machine.py", "pieces.py", "covers.py", "laying.py",
+                     "sharing.py", "shops.py"]:
             self.assertIn(name, there)
 
     def test_signs_and_lengths(self):
@@ -101,7 +102,7 @@ class FormTest(unittest.TestCase):
                     given = [node.name]
                 for name in given:
                     self.assertNotIn(name, pythons, path.name)
-                    self.assertTrue(name == "__init__" or not name.startswith("_"), (path.name, name))
+                    self.assertTrue(name in ("__init__", "__len__") or not name.startswith("_"), (path.name, name))
 
     def test_methods_are_known_ones(self):
         trees = [parsed(path) for path in FILES]
